@@ -1,0 +1,1 @@
+"""Susu: savings circles that nobody can empty."""
