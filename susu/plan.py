@@ -7,6 +7,11 @@ def first_covered(stake, seats, pledge):
     return max(1, seats - pledge // stake)
 
 
+def is_covered(stake, seats, pledge, turn):
+    """Whether the pledge covers a draw in this round: it bears a stake for each later one."""
+    return pledge >= stake * (seats - turn)
+
+
 def within(windows, a, b):
     """The numbers of the windows that lie within a to b, growing."""
     return [at for at, (first, last) in enumerate(windows) if first >= a and last <= b]

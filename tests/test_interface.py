@@ -21,6 +21,37 @@ FUNCTIONS = {
         "transfers": ["nets"],
         "worth": ["row", "up", "down"],
     },
+    "susu.audit": {
+        "first_wrong": ["stake", "pledges", "queue", "bidding", "reports"],
+    },
+    "susu.notes": {
+        "deed_text": ["deed"],
+        "deed_of": ["text"],
+        "page_text": ["deeds"],
+        "page_deeds": ["text"],
+    },
+    "susu.house": {
+        "opened": ["deeds"],
+    },
+}
+
+METHODS = {
+    ("susu.circle", "Circle"): {
+        "__init__": ["stake", "pledges", "wishes", "bidding"],
+        "turn": [], "ended": [], "queue": [], "rests": [], "box": [], "seat": ["at"], "owed": ["at"],
+        "expected": ["at"], "flow": ["at"], "close": ["paid", "bids"], "lay": ["at", "coins"], "swap": ["at", "other"],
+        "refunds": [], "twin": [],
+    },
+    ("susu.house", "House"): {
+        "__init__": [],
+        "enter": ["name"], "part": ["name"], "bring": ["name", "coins"], "take": ["name", "coins"],
+        "found": ["circle", "stake", "bidding", "seats"], "pay": ["circle", "name"],
+        "bid": ["circle", "name", "coins"], "lay": ["circle", "name", "coins"], "swap": ["circle", "name", "other"],
+        "close": ["circle"], "deed": ["row"], "back": [], "again": [], "deeds": [], "members": [], "purse": ["name"],
+        "circles": [], "names": ["circle"], "turn": ["circle"], "rests": ["circle"], "queue": ["circle"],
+        "paid": ["circle"], "bids": ["circle"], "reports": ["circle"], "held": ["circle"],
+        "seat": ["circle", "name"], "coins": [], "twin": [],
+    },
 }
 
 CLASSES = {
@@ -29,6 +60,8 @@ CLASSES = {
         "Ended", "NotEnded", "Fell", "Paid", "NoBids", "NotWaiting", "Uncovered", "TooMany", "Uneven", "NoDeed",
         "NothingLeft", "NoOrder",
     ],
+    "susu.circle": ["Circle"],
+    "susu.house": ["House"],
 }
 
 
@@ -47,6 +80,19 @@ class InterfaceTest(unittest.TestCase):
                 found = getattr(importlib.import_module(module), name)
                 self.assertTrue(inspect.isclass(found), name)
                 self.assertEqual(found.__module__, module)
+
+    def test_methods_stand_in_their_class(self):
+        for (module, name), methods in METHODS.items():
+            found = getattr(importlib.import_module(module), name)
+            for method, arguments in methods.items():
+                if method == "__init__" and not arguments:
+                    continue
+                self.assertIn(method, vars(found), name)
+                given = inspect.signature(vars(found)[method]).parameters
+                self.assertEqual(list(given)[1:], arguments, f"{name}.{method}")
+                defaults = {"bidding": False} if name == "Circle" and method == "__init__" else {}
+                told = {at: given[at].default for at in given if given[at].default is not inspect.Parameter.empty}
+                self.assertEqual(told, defaults, f"{name}.{method}")
 
 
 if __name__ == "__main__":

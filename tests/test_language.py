@@ -124,6 +124,25 @@ class LanguageTest(unittest.TestCase):
                 if isinstance(node, ast.Call) and isinstance(node.func, ast.Attribute):
                     self.assertIn(node.func.attr, allowed, f"{path.name}:{node.lineno}")
 
+    def test_no_name_is_a_method_and_an_attribute(self):
+        stored = {
+            node.attr for path, tree in trees() for node in ast.walk(tree)
+            if isinstance(node, ast.Attribute) and not isinstance(node.ctx, ast.Load)
+        }
+        self.assertEqual(sorted(stored & own_methods()), [])
+
+    def test_no_local_name_is_an_import_or_a_class(self):
+        for path, tree in trees():
+            top = [
+                name for row in tree.body if isinstance(row, (ast.ImportFrom, ast.ClassDef))
+                for part in (row.names if isinstance(row, ast.ImportFrom) else [row]) for name in bound_names(part)
+            ]
+            self.assertEqual(len(top), len(set(top)), path.name)
+            for node in ast.walk(tree):
+                if isinstance(node, (ast.arg, ast.Name)) and not isinstance(getattr(node, "ctx", None), ast.Load):
+                    for name in bound_names(node):
+                        self.assertNotIn(name, top, f"{path.name}:{node.lineno}")
+
     def test_values(self):
         for path, tree in trees():
             for node in ast.walk(tree):
